@@ -1,0 +1,1 @@
+"""Holdtalk: answering under a duty, and never being caught."""

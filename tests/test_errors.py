@@ -1,0 +1,62 @@
+import unittest
+
+from holdtalk import errors
+from holdtalk.errors import NoBook, NoSentence, TalkError
+from holdtalk.sentences import read
+
+PLAIN = ("StrangeLetter", "NoLetter", "NoWorld", "BadWord", "NoStanding", "TalkOver", "NothingSaid", "BadName",
+         "NameTaken", "NoTalk")
+PLACED = ("NoSentence", "NoBook")
+
+
+class Errors(unittest.TestCase):
+    def test_all_twelve_are_there(self):
+        for name in PLAIN + PLACED:
+            self.assertTrue(isinstance(getattr(errors, name), type), name)
+
+    def test_each_is_a_talk_error_and_a_value_error(self):
+        self.assertTrue(issubclass(TalkError, ValueError))
+        for name in PLAIN + PLACED:
+            kind = getattr(errors, name)
+            self.assertTrue(issubclass(kind, TalkError), name)
+            self.assertTrue(issubclass(kind, ValueError), name)
+
+    def test_none_stands_under_another(self):
+        for name in PLAIN + PLACED:
+            for other in PLAIN + PLACED:
+                under = issubclass(getattr(errors, name), getattr(errors, other))
+                self.assertEqual(under, name == other, (name, other))
+
+    def test_talk_error_is_none_of_the_twelve(self):
+        for name in PLAIN + PLACED:
+            self.assertFalse(issubclass(TalkError, getattr(errors, name)), name)
+
+    def test_plain_ones_are_raised_and_taken_by_their_own_name(self):
+        for name in PLAIN:
+            kind = getattr(errors, name)
+            for taken in (kind, TalkError, ValueError):
+                with self.assertRaises(taken):
+                    raise kind()
+                with self.assertRaises(taken):
+                    raise kind("some words")
+
+    def test_place_is_kept_as_a_whole_number(self):
+        for kind in (NoSentence, NoBook):
+            for at in (0, 1, 7, 2000):
+                error = kind(at)
+                self.assertIs(type(error.at), int)
+                self.assertEqual(error.at, at)
+
+    def test_each_object_has_its_own_place(self):
+        one, other = NoSentence(3), NoSentence(5)
+        self.assertEqual((one.at, other.at), (3, 5))
+
+    def test_place_of_a_real_refusal_is_a_whole_number(self):
+        for text in ("", "x", "a b", "(a&"):
+            with self.assertRaises(NoSentence) as caught:
+                read(text)
+            self.assertIs(type(caught.exception.at), int)
+
+
+if __name__ == "__main__":
+    unittest.main()

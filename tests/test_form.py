@@ -1,0 +1,97 @@
+"""The package's files keep to the form of LANGUAGE.md, as far as it is plain to see from the files."""
+
+import ast
+import builtins
+import pathlib
+import re
+import unittest
+
+FOLDER = pathlib.Path(__file__).resolve().parent.parent / "holdtalk"
+FILES = sorted(FOLDER.glob("*.py"))
+TREES = [ast.parse(path.read_text(encoding="ascii"), path.name) for path in FILES]
+
+OWN_NAMES = set("""len range enumerate zip min max sum abs sorted reversed int str bool bytes list tuple dict set
+    frozenset isinstance ord repr any all divmod Exception ValueError TypeError KeyError IndexError LookupError
+    ZeroDivisionError ArithmeticError OverflowError RuntimeError NotImplementedError AttributeError
+    StopIteration""".split())
+OUTSIDE = (ast.With, ast.Match, ast.Global, ast.Nonlocal, ast.Yield, ast.YieldFrom, ast.AsyncFunctionDef, ast.Await,
+           ast.GeneratorExp, ast.NamedExpr, ast.Import, ast.Div)
+METHODS = ("__init__", "__eq__", "__repr__", "__str__", "__len__")
+WORDS = re.compile(r"\b(type|typing|typing_extensions|enum|Enum|IntEnum|StrEnum|Flag|IntFlag|Generic|Protocol|ABC|"
+                   r"ABCMeta|namedtuple|NamedTuple|TypedDict|TYPE_CHECKING|abstractmethod)\b|"
+                   r"dataclass|overload|contextmanager")
+
+
+def bound_names(tree):
+    """All names that a file gives something to."""
+    for node in ast.walk(tree):
+        if isinstance(node, (ast.FunctionDef, ast.ClassDef)):
+            yield node.name
+        elif isinstance(node, ast.arg):
+            yield node.arg
+        elif isinstance(node, ast.Name) and isinstance(node.ctx, ast.Store):
+            yield node.id
+        elif isinstance(node, ast.alias):
+            yield node.asname or node.name
+
+
+class Form(unittest.TestCase):
+    def test_only_files_of_the_program_lie_in_the_folder(self):
+        self.assertTrue(FILES)
+        for path in FOLDER.iterdir():
+            if path.name != "__pycache__":
+                self.assertRegex(path.name, r"^(__init__|[a-z][a-z0-9_]*)\.py$")
+
+    def test_sizes_and_signs(self):
+        for path in FILES:
+            rows = path.read_text(encoding="ascii").split("\n")
+            self.assertLessEqual(len(rows), 401, path.name)
+            for row in rows:
+                self.assertLessEqual(len(row), 120, row)
+                self.assertRegex(row, r"^[ -~]*$")
+                self.assertIsNone(WORDS.search(row), row)
+
+    def test_defs_are_small(self):
+        for tree in TREES:
+            for node in ast.walk(tree):
+                if isinstance(node, ast.FunctionDef):
+                    self.assertLessEqual(node.end_lineno - node.lineno + 1, 40, node.name)
+                    self.assertEqual(node.decorator_list, [])
+
+    def test_no_word_of_the_language_outside_the_rules(self):
+        for tree in TREES:
+            for node in ast.walk(tree):
+                self.assertNotIsInstance(node, OUTSIDE)
+                if isinstance(node, ast.Constant):
+                    self.assertNotIsInstance(node.value, (float, complex))
+                if isinstance(node, ast.Constant) and isinstance(node.value, str):
+                    self.assertNotIn("%", node.value)
+                if isinstance(node, (ast.For, ast.While)):
+                    self.assertEqual(node.orelse, [])
+
+    def test_imports_are_from_the_very_file(self):
+        for tree in TREES:
+            for node in ast.walk(tree):
+                if isinstance(node, ast.ImportFrom):
+                    self.assertEqual(node.level, 0)
+                    self.assertRegex(node.module, r"^holdtalk\.[a-z_]+$")
+                    source = ast.parse((FOLDER / (node.module.split(".")[1] + ".py")).read_text())
+                    given = {top.name for top in source.body if isinstance(top, (ast.FunctionDef, ast.ClassDef))}
+                    given |= {name.id for top in source.body if isinstance(top, ast.Assign) for name in top.targets}
+                    for name in node.names:
+                        self.assertIn(name.name, given)
+
+    def test_names(self):
+        for tree in TREES:
+            bound = set(bound_names(tree))
+            for name in bound:
+                self.assertTrue(name in METHODS or re.match(r"^[A-Za-z][A-Za-z0-9_]*$", name), name)
+            for node in ast.walk(tree):
+                if isinstance(node, ast.arg) or isinstance(node, ast.Name) and isinstance(node.ctx, ast.Store):
+                    self.assertFalse(hasattr(builtins, getattr(node, "arg", None) or node.id), ast.dump(node))
+                elif isinstance(node, ast.Name) and node.id not in bound:
+                    self.assertIn(node.id, OWN_NAMES)
+
+
+if __name__ == "__main__":
+    unittest.main()
