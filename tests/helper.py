@@ -1,4 +1,4 @@
-"""What several tests need: sentences to try, and slow readers to compare with."""
+"""What several tests need: sentences and rows of worlds to try, and slow readers and reckoners to compare with."""
 
 import itertools
 import random
@@ -8,6 +8,7 @@ KIND_OF = {"&": "and", "|": "or", ">": "if", "=": "same"}
 JOINED = ("and", "or", "if", "same")
 SIGNS = "abcde-(&|>=) "
 LETTER = [("let", k) for k in range(5)]
+POWERS = (1, 2, 4, 8, 16)
 
 
 def left_chain(deep):
@@ -105,6 +106,31 @@ def plain_signs(text):
     for sign in "|>=":
         text = text.replace(sign, "&")
     return text
+
+
+def slow_true(sentence, world):
+    """Whether the sentence is true in the world, by a reckoner that calls itself."""
+    kind, *parts = sentence
+    if kind == "let":
+        return world // POWERS[parts[0]] % 2 == 1
+    truths = tuple(slow_true(part, world) for part in parts)
+    if kind == "not":
+        return truths == (False,)
+    return truths in {"and": [(True, True)],
+                      "or": [(True, True), (True, False), (False, True)],
+                      "if": [(True, True), (False, True), (False, False)],
+                      "same": [(True, True), (False, False)]}[kind]
+
+
+def rows_within(worlds):
+    """All rows of these worlds that rise, the empty one too, where the worlds rise."""
+    return [list(row) for size in range(len(worlds) + 1) for row in itertools.combinations(worlds, size)]
+
+
+def some_rows(seed, many, worlds):
+    """So many rows of these worlds by chance, alike in each run, of few worlds and of many."""
+    chance = random.Random(seed)
+    return [sorted(chance.sample(worlds, chance.randrange(len(worlds) + 1))) for k in range(many)]
 
 
 class Stuck(Exception):

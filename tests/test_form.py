@@ -92,6 +92,45 @@ class Form(unittest.TestCase):
                 elif isinstance(node, ast.Name) and node.id not in bound:
                     self.assertIn(node.id, OWN_NAMES)
 
+    def test_no_parameter_or_local_is_called_like_an_import_or_a_class(self):
+        for tree in TREES:
+            kept = {name.name for node in tree.body if isinstance(node, ast.ImportFrom) for name in node.names}
+            kept |= {node.name for node in tree.body if isinstance(node, ast.ClassDef)}
+            tops = {name.id for node in tree.body if isinstance(node, ast.Assign) for name in node.targets}
+            self.assertEqual(kept & tops, set())
+            for node in ast.walk(tree):
+                if isinstance(node, ast.arg) or isinstance(node, ast.Name) and isinstance(node.ctx, ast.Store):
+                    self.assertNotIn(getattr(node, "arg", None) or node.id, kept)
+
+    def test_no_two_files_draw_from_one_another(self):
+        drawn = {path.stem: {node.module.split(".")[1] for node in tree.body if isinstance(node, ast.ImportFrom)}
+                 for path, tree in zip(FILES, TREES)}
+        while drawn:
+            free = [name for name, sources in drawn.items() if not sources & set(drawn)]
+            self.assertTrue(free, drawn)
+            for name in free:
+                del drawn[name]
+
+    def test_no_name_is_a_method_in_one_class_and_a_value_in_another(self):
+        classes = [node for tree in TREES for node in ast.walk(tree) if isinstance(node, ast.ClassDef)]
+        methods = {node.name for each in classes for node in each.body if isinstance(node, ast.FunctionDef)}
+        values = {node.attr for tree in TREES for node in ast.walk(tree)
+                  if isinstance(node, ast.Attribute) and isinstance(node.ctx, ast.Store)}
+        self.assertEqual(methods & values, set())
+
+    def test_is_stands_beside_none_true_and_false_alone(self):
+        for tree in TREES:
+            for node in ast.walk(tree):
+                if isinstance(node, ast.Compare) and any(isinstance(sign, (ast.Is, ast.IsNot)) for sign in node.ops):
+                    self.assertTrue(isinstance(node.comparators[0], ast.Constant), ast.dump(node))
+                    self.assertIn(node.comparators[0].value, (None, True, False))
+
+    def test_no_power_of_an_unwritten_number(self):
+        for tree in TREES:
+            for node in ast.walk(tree):
+                if isinstance(node, ast.BinOp) and isinstance(node.op, ast.Pow):
+                    self.assertIsInstance(node.right, ast.Constant)
+
 
 if __name__ == "__main__":
     unittest.main()
