@@ -27,6 +27,14 @@ def base_of(sides):
     return in_any(sides)
 
 
+def missed_side(sides, worlds):
+    """The number of the first side that has no world in the row, or None where each has one."""
+    for at, side in enumerate(sides):
+        if not some_within(side, worlds):
+            return at
+    return None
+
+
 def stands(sides, worlds):
     """Whether each side has a world in the row."""
-    return all([some_within(side, worlds) for side in sides])
+    return missed_side(sides, worlds) is None

@@ -3,12 +3,21 @@
 import itertools
 import random
 
+from holdtalk.errors import TalkError
+
 SIGN_OF = {"and": "&", "or": "|", "if": ">", "same": "="}
 KIND_OF = {"&": "and", "|": "or", ">": "if", "=": "same"}
 JOINED = ("and", "or", "if", "same")
 SIGNS = "abcde-(&|>=) "
 LETTER = [("let", k) for k in range(5)]
+NEVER_TRUE = ("and", LETTER[0], ("not", LETTER[0]))
+ALWAYS_TRUE = ("or", LETTER[0], ("not", LETTER[0]))
+EITHER = ("or", LETTER[0], LETTER[1])
 POWERS = (1, 2, 4, 8, 16)
+KINDS = ("true", "false", "doubt")
+RULES = ("elder", "newer")
+ANSWERS = ("grant", "deny", "doubt")
+CONTRARY = {"grant": "deny", "deny": "grant", "doubt": "doubt"}
 
 
 def left_chain(deep):
@@ -55,19 +64,20 @@ def wide_sentence(tuples):
     return row[0]
 
 
+def grown(chance, deep, letters=5):
+    """A sentence by chance, at most so deep, of so many letters."""
+    if deep == 0 or chance.random() < 0.2:
+        return LETTER[chance.randrange(letters)]
+    kind = chance.choice(("not",) + JOINED)
+    if kind == "not":
+        return (kind, grown(chance, deep - 1, letters))
+    return (kind, grown(chance, deep - 1, letters), grown(chance, deep - 1, letters))
+
+
 def some_sentences(seed, many, deepest):
     """Sentences by chance, alike in each run."""
     chance = random.Random(seed)
-
-    def one(deep):
-        if deep == 0 or chance.random() < 0.2:
-            return LETTER[chance.randrange(5)]
-        kind = chance.choice(("not",) + JOINED)
-        if kind == "not":
-            return (kind, one(deep - 1))
-        return (kind, one(deep - 1), one(deep - 1))
-
-    return [one(chance.randrange(deepest + 1)) for k in range(many)]
+    return [grown(chance, chance.randrange(deepest + 1)) for k in range(many)]
 
 
 def short_forms(longest):
@@ -131,6 +141,150 @@ def some_rows(seed, many, worlds):
     """So many rows of these worlds by chance, alike in each run, of few worlds and of many."""
     chance = random.Random(seed)
     return [sorted(chance.sample(worlds, chance.randrange(len(worlds) + 1))) for k in range(many)]
+
+
+def minterms(worlds, many):
+    """A sentence that is true in just these of the worlds of so many letters, world by world."""
+    row = [("and", LETTER[0], ("not", LETTER[0]))]
+    for world in worlds:
+        part = ("or", LETTER[0], ("not", LETTER[0]))
+        for k in range(many):
+            part = ("and", part, LETTER[k] if world // POWERS[k] % 2 else ("not", LETTER[k]))
+        row.append(part)
+    while len(row) > 1:
+        row = [("or", *row[k:k + 2]) if len(row[k:k + 2]) == 2 else row[k] for k in range(0, len(row), 2)]
+    return row[0]
+
+
+def refusal_of(deed, *things):
+    """The class of the refusal that the deed raises, or None where it raises none."""
+    try:
+        deed(*things)
+    except TalkError as refusal:
+        return refusal.__class__
+    return None
+
+
+def slow_sides(room, kind, sentence):
+    """The sides of a footing, as a list of sets."""
+    inside = {world for world in room if slow_true(sentence, world)}
+    return {"true": [inside], "false": [set(room) - inside], "doubt": [inside, set(room) - inside]}[kind]
+
+
+def slow_plain(seen, worlds):
+    if set(seen) <= set(worlds):
+        return "grant"
+    return "doubt" if set(seen) & set(worlds) else "deny"
+
+
+def slow_answer(sides, going, seen, worlds):
+    """The words of the document, one after the other, over sets of worlds."""
+    going, seen, worlds = set(going), set(seen), set(worlds)
+    if going <= worlds:
+        return "grant"
+    if not going & worlds:
+        return "deny"
+    if seen <= worlds:
+        return "grant" if all(going & worlds & set(side) for side in sides) else "doubt"
+    if not seen & worlds:
+        return "deny" if all((going - worlds) & set(side) for side in sides) else "doubt"
+    return "doubt"
+
+
+class SlowTalk:
+    """A talk that keeps nothing but its answers, over sets of worlds, and reckons all else anew."""
+
+    def __init__(self, room, kind, sentence, rule):
+        self.room, self.rule = set(room), rule
+        self.sides = slow_sides(room, kind, sentence)
+        self.base = set().union(*self.sides)
+        self.entries = []
+        self.insides = []
+
+    def inside(self, sentence):
+        return {world for world in self.room if slow_true(sentence, world)}
+
+    def place(self, k):
+        """The worlds of a place."""
+        if k == 0:
+            return self.base
+        inside = self.insides[k - 1]
+        return {"grant": inside, "deny": self.room - inside, "doubt": self.room}[self.entries[k - 1][1]]
+
+    def held(self):
+        return set.intersection(*[self.place(k) for k in range(len(self.entries) + 1)])
+
+    def going(self):
+        return self.held() if self.rule == "elder" else self.base
+
+    def caught(self):
+        return not all(side & self.held() for side in self.sides)
+
+    def ask(self, sentence, seen):
+        return slow_answer(self.sides, self.going(), seen, self.inside(sentence))
+
+    def say(self, sentence, seen):
+        self.give(sentence, self.ask(sentence, seen))
+        return self.entries[-1][1]
+
+    def give(self, sentence, word):
+        """Keep an answer, whether it is due or not."""
+        self.entries.append((sentence, word))
+        self.insides.append(self.inside(sentence))
+
+    def lead(self, places, target):
+        """Whether the places lead to the row of worlds, and none, and no several, of them can be left out."""
+        def common(some):
+            return self.room.intersection(*[self.place(k) for k in some])
+
+        less = [some for size in range(len(places)) for some in itertools.combinations(places, size)]
+        return common(places) <= target and not any(common(some) <= target for some in less)
+
+    def clash_holds(self, clash):
+        """Whether a pair of a side and places is a clash of the talk."""
+        side, places = clash
+        return (side in range(len(self.sides)) and places == sorted(set(places))
+                and all(1 <= k <= len(self.entries) for k in places)
+                and self.lead(places, self.room - self.sides[side]))
+
+
+def footings_by_chance(seed, many):
+    """So many rooms with footings that stand: (letters, room, kind, sentence), alike in each run."""
+    chance = random.Random(seed)
+    told = []
+    while len(told) < many:
+        letters = chance.choice((1, 2, 2, 3, 3, 3, 4, 5))
+        worlds = range(2 ** letters)
+        room = sorted(chance.sample(worlds, chance.randrange(1, len(worlds) + 1)))
+        if chance.random() < 0.3:
+            room = list(worlds)
+        inside = sorted(chance.sample(room, chance.randrange(len(room) + 1)))
+        kind = chance.choice(KINDS)
+        sentence = minterms(inside, letters)
+        if all(slow_sides(room, kind, sentence)):
+            told.append((letters, room, kind, sentence))
+    return told
+
+
+def row_by_chance(chance, room, most=None):
+    """A row of worlds of the room that isn't empty."""
+    return sorted(chance.sample(room, chance.randrange(1, min(most or len(room), len(room)) + 1)))
+
+
+def sentence_by_chance(chance, letters):
+    """A sentence of so many letters that is true in worlds by chance; with many letters in easier ones."""
+    if letters > 3:
+        return grown(chance, 4, letters)
+    worlds = range(2 ** letters)
+    return minterms(sorted(chance.sample(worlds, chance.randrange(len(worlds) + 1))), letters)
+
+
+def looks_of(talk):
+    """All that can be looked at in a talk, as it is now: no list in it is one that the talk told."""
+    rows = (talk.room(), talk.base(), talk.held(), talk.going(), talk.entries(), *talk.sides())
+    room, base, held, going, entries, *sides = [list(row) for row in rows]
+    return {"fields": (talk.many, talk.kind, talk.sentence, talk.rule), "room": room, "base": base, "held": held,
+            "going": going, "sides": sides, "entries": entries, "caught": talk.caught(), "over": talk.over()}
 
 
 class Stuck(Exception):

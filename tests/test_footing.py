@@ -2,14 +2,12 @@ import itertools
 import unittest
 
 from holdtalk.errors import BadWord, NoStanding
-from holdtalk.footing import base_of, sides_of, stands
+from holdtalk.footing import base_of, missed_side, sides_of, stands
 from holdtalk.sentences import read
-from tests.helper import LETTER, left_chain, rows_within, slow_true, some_rows, some_sentences
+from tests.helper import ALWAYS_TRUE, LETTER, NEVER_TRUE, left_chain, rows_within, slow_true, some_rows, some_sentences
 
 A, B, C, D, E = LETTER
 ALL = list(range(32))
-NEVER_TRUE = ("and", A, ("not", A))
-ALWAYS_TRUE = ("or", A, ("not", A))
 NO_KINDS = ("", " ", "elder", "newer", "grant", "deny", "True", "False", "true ", " true", "tru", "truefalse",
             "doubted", "DOUBT", "a", "yes", "unknown", "let", "not")
 
@@ -156,6 +154,12 @@ class Stands(unittest.TestCase):
             self.assertIs(stands([inside], worlds), of_one)
             if outside:
                 self.assertIs(stands([inside, outside], worlds), of_one and of_other)
+
+    def test_the_first_side_that_is_missed(self):
+        sides = [[1, 3], [0, 2]]
+        told = [missed_side(sides, worlds) for worlds in ([0], [1], [], [4], [0, 1], [0, 1, 2, 3])]
+        self.assertEqual(told, [0, 1, 0, 0, None, None])
+        self.assertEqual([missed_side([[1, 3]], worlds) for worlds in ([0], [3], [])], [0, None, 0])
 
     def test_what_is_handed_in_stays(self):
         sides, worlds = [[1, 3], [0, 2]], [0, 3]

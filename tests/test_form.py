@@ -16,6 +16,12 @@ OWN_NAMES = set("""len range enumerate zip min max sum abs sorted reversed int s
     StopIteration""".split())
 OUTSIDE = (ast.With, ast.Match, ast.Global, ast.Nonlocal, ast.Yield, ast.YieldFrom, ast.AsyncFunctionDef, ast.Await,
            ast.GeneratorExp, ast.NamedExpr, ast.Import, ast.Div)
+# The methods of Python's own values that the program uses; LANGUAGE.md allows some more.
+OWN_METHODS = set("""append clear copy count endswith extend find get index insert isalnum isalpha isdigit islower
+    isspace isupper items join keys ljust lower lstrip partition pop remove replace reverse rfind rjust rpartition
+    rsplit rstrip setdefault split splitlines startswith strip update upper values zfill bit_length add
+    discard""".split())
+PYTHONS_VALUES = ("", 0, b"", [], (), {}, set())
 METHODS = ("__init__", "__eq__", "__repr__", "__str__", "__len__")
 WORDS = re.compile(r"\b(type|typing|typing_extensions|enum|Enum|IntEnum|StrEnum|Flag|IntFlag|Generic|Protocol|ABC|"
                    r"ABCMeta|namedtuple|NamedTuple|TypedDict|TYPE_CHECKING|abstractmethod)\b|"
@@ -117,6 +123,19 @@ class Form(unittest.TestCase):
         values = {node.attr for tree in TREES for node in ast.walk(tree)
                   if isinstance(node, ast.Attribute) and isinstance(node.ctx, ast.Store)}
         self.assertEqual(methods & values, set())
+
+    def test_values_and_methods_that_are_asked_are_there(self):
+        classes = [node for tree in TREES for node in ast.walk(tree) if isinstance(node, ast.ClassDef)]
+        methods = {node.name for each in classes for node in each.body if isinstance(node, ast.FunctionDef)}
+        values = {node.attr for tree in TREES for node in ast.walk(tree)
+                  if isinstance(node, ast.Attribute) and isinstance(node.ctx, ast.Store)}
+        for name in (methods | values) - set(METHODS):
+            self.assertFalse([each for each in PYTHONS_VALUES if hasattr(each, name)], name)
+        for tree in TREES:
+            called = [node.func for node in ast.walk(tree) if isinstance(node, ast.Call)]
+            for node in ast.walk(tree):
+                if isinstance(node, ast.Attribute):
+                    self.assertIn(node.attr, methods | OWN_METHODS if node in called else values)
 
     def test_is_stands_beside_none_true_and_false_alone(self):
         for tree in TREES:

@@ -11,6 +11,17 @@ DEFS = {
     "knowledge": {"seen_by": ["room", "marks"], "plain": ["seen", "worlds"]},
     "footing": {"sides_of": ["room", "kind", "sentence"], "base_of": ["sides"], "stands": ["sides", "worlds"]},
     "rules": {"answer": ["sides", "going", "seen", "worlds"]},
+    "papers": {"paper_of": ["talk", "sentence", "seen"], "paper_holds": ["talk", "sentence", "seen", "paper"],
+               "clash_of": ["talk"]},
+    "judge": {"judged": ["talk", "seen", "row"], "falls": ["many", "room", "kind", "sentence", "row"]},
+    "asker": {"way_to": ["talk", "goal", "seen"], "catch_by": ["talk", "seen"], "apart_by": ["one", "other", "seen"]},
+}
+
+CLASSES = {
+    ("talk", "Talk"): {
+        "__init__": ["many", "room", "kind", "sentence", "rule"], "room": [], "base": [], "held": [], "going": [],
+        "sides": [], "entries": [], "caught": [], "over": [], "ask": ["sentence", "seen"], "say": ["sentence", "seen"],
+        "back": [], "fork": [], "end": []},
 }
 
 
@@ -20,6 +31,12 @@ class Interface(unittest.TestCase):
             there = importlib.import_module("holdtalk." + module)
             for name, arguments in defs.items():
                 self.assertEqual(list(inspect.signature(getattr(there, name)).parameters), arguments, name)
+
+    def test_methods_take_what_the_document_tells(self):
+        for (module, name), methods in CLASSES.items():
+            there = getattr(importlib.import_module("holdtalk." + module), name)
+            for method, arguments in methods.items():
+                self.assertEqual(list(inspect.signature(getattr(there, method)).parameters)[1:], arguments, method)
 
 
 if __name__ == "__main__":

@@ -4,27 +4,12 @@ import unittest
 
 from holdtalk.footing import base_of, sides_of
 from holdtalk.knowledge import seen_by
-from holdtalk.rules import answer, left_by
+from holdtalk.rules import answer, barring_side, left_by
 from holdtalk.worlds import room_of, worlds_of
-from tests.helper import LETTER, rows_within, slow_true, some_sentences
+from tests.helper import CONTRARY, LETTER, rows_within, slow_answer, slow_true, some_sentences
 
 A, B, C, D, E = LETTER
-CONTRARY = {"grant": "deny", "deny": "grant", "doubt": "doubt"}
 ROOM = [0, 1, 2, 3]
-
-
-def slow_answer(sides, going, seen, worlds):
-    """The words of the document, one after the other, over sets of worlds."""
-    going, seen, worlds = set(going), set(seen), set(worlds)
-    if going <= worlds:
-        return "grant"
-    if not going & worlds:
-        return "deny"
-    if seen <= worlds:
-        return "grant" if all(going & worlds & set(side) for side in sides) else "doubt"
-    if not seen & worlds:
-        return "deny" if all((going - worlds) & set(side) for side in sides) else "doubt"
-    return "doubt"
 
 
 def footings(room):
@@ -174,6 +159,25 @@ class Answer(unittest.TestCase):
             first = answer(sides, going, seen, worlds)
             self.assertEqual(answer(sides, going, seen, worlds), first)
             self.assertEqual((sides, (going, seen, worlds)), ([[1, 3], [0, 2]], kept))
+
+
+class BarringSide(unittest.TestCase):
+    SIDES = [[1, 3], [0, 2]]
+
+    def test_no_side_bars_a_plain_doubt(self):
+        self.assertIsNone(barring_side(self.SIDES, ROOM, [0, 1], [1, 3]))
+        self.assertIsNone(barring_side(self.SIDES, [1, 3], [0, 1], [1]))
+
+    def test_the_first_side_that_has_none(self):
+        self.assertEqual(barring_side(self.SIDES, ROOM, [2], [0, 2]), 0)
+        self.assertEqual(barring_side(self.SIDES, ROOM, [3], [1, 3]), 1)
+        self.assertEqual(barring_side(self.SIDES, ROOM, [2], [1, 3]), 0)
+        self.assertEqual(barring_side(self.SIDES, ROOM, [3], [0, 2]), 1)
+        self.assertEqual(barring_side([[1], [2]], [1, 2, 3], [3], [3]), 0)
+
+    def test_no_side_bars_what_stands(self):
+        self.assertIsNone(barring_side(self.SIDES, ROOM, [2], [2, 3]))
+        self.assertIsNone(barring_side(self.SIDES, ROOM, [0], [2, 3]))
 
 
 class LeftBy(unittest.TestCase):

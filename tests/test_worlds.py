@@ -4,13 +4,11 @@ import unittest
 from holdtalk.errors import NoWorld, StrangeLetter
 from holdtalk.sentences import depth, letters, read, shown
 from holdtalk.worlds import all_worlds, room_of, sentence_of, true_in, worlds_of
-from tests.helper import (JOINED, LETTER, left_chain, not_chain, right_chain, rows_within, short_forms, slow_true,
-                          some_rows, some_sentences, tuple_count, wide_sentence)
+from tests.helper import (ALWAYS_TRUE, JOINED, LETTER, NEVER_TRUE, left_chain, not_chain, right_chain, rows_within,
+                          short_forms, slow_true, some_rows, some_sentences, tuple_count, wide_sentence)
 
 A, B, C, D, E = LETTER
 ALL = list(range(32))
-NEVER_TRUE = ("and", A, ("not", A))
-ALWAYS_TRUE = ("or", A, ("not", A))
 
 
 class TrueIn(unittest.TestCase):
