@@ -28,11 +28,17 @@ def judged(talk, seen, row):
     return None
 
 
-def falls(many, room, kind, sentence, row):
-    """How many answers the row falls after, and a clash of these, or None; StrangeLetter, BadWord, NoStanding."""
+def checked_sides(many, room, kind, sentence, row):
+    """The sides of a footing; refuses what is wrong with it, else what is wrong with the row of answers beside it."""
     refuse_strange(sentence, many)
     sides = sides_of(room, kind, sentence)
     refuse_row(row, many)
+    return sides
+
+
+def falls(many, room, kind, sentence, row):
+    """How many answers the row falls after, and a clash of these, or None; StrangeLetter, BadWord, NoStanding."""
+    sides = checked_sides(many, room, kind, sentence, row)
     held = base_of(sides)
     for at, (said, word) in enumerate(row):
         held = left_by(word, held, worlds_of(said, room))

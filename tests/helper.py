@@ -3,7 +3,10 @@
 import itertools
 import random
 
-from holdtalk.errors import TalkError
+from holdtalk.errors import (BadName, BadWord, NameTaken, NoLetter, NoStanding, NoTalk, NothingSaid, NoWorld,
+                             StrangeLetter, TalkError, TalkOver)
+from holdtalk.papers import clash_of
+from holdtalk.talk import Talk
 
 SIGN_OF = {"and": "&", "or": "|", "if": ">", "same": "="}
 KIND_OF = {"&": "and", "|": "or", ">": "if", "=": "same"}
@@ -116,6 +119,23 @@ def plain_signs(text):
     for sign in "|>=":
         text = text.replace(sign, "&")
     return text
+
+
+def slow_shown(sentence):
+    """The shown form, by a def that calls itself."""
+    kind, *parts = sentence
+    if kind == "let":
+        return "abcde"[parts[0]]
+    if kind == "not":
+        return "-" + slow_shown(parts[0])
+    return "(" + slow_shown(parts[0]) + SIGN_OF[kind] + slow_shown(parts[1]) + ")"
+
+
+def slow_letters(sentence):
+    """The letters of a sentence, a set."""
+    if sentence[0] == "let":
+        return {sentence[1]}
+    return set().union(*[slow_letters(part) for part in sentence[1:]])
 
 
 def slow_true(sentence, world):
@@ -285,6 +305,130 @@ def looks_of(talk):
     room, base, held, going, entries, *sides = [list(row) for row in rows]
     return {"fields": (talk.many, talk.kind, talk.sentence, talk.rule), "room": room, "base": base, "held": held,
             "going": going, "sides": sides, "entries": entries, "caught": talk.caught(), "over": talk.over()}
+
+
+def slow_seen(room, marks):
+    """The worlds of the room that agree with all marks."""
+    return [world for world in room
+            if all(mark is None or mark == (world // power % 2 == 1) for mark, power in zip(marks, POWERS))]
+
+
+class TwinHouse:
+    """What a house should be: talks by themselves in a dict, marks, and a log, with the refusals due in their order."""
+
+    def __init__(self, many, standing):
+        self.many, self.marks, self.talks = many, [None] * many, {}
+        self.room = [world for world in range(2 ** many) if all(slow_true(each, world) for each in standing)]
+        self.log = [" ".join(["house", str(many), *[slow_shown(each) for each in standing]])]
+
+    def seen(self):
+        return slow_seen(self.room, self.marks)
+
+    def strange(self, sentence):
+        return max(slow_letters(sentence)) >= self.many
+
+    def name_refusal(self, name):
+        if not 1 <= len(name) <= 8 or not all(97 <= ord(sign) <= 122 for sign in name):
+            return BadName
+        return NameTaken if name in self.talks else None
+
+    def refusal(self, word, *things):
+        """The refusal that is due to a deed, or None."""
+        if word == "learn":
+            letter, mark = things
+            if not 0 <= letter < self.many:
+                return NoLetter
+            return None if slow_seen(self.room, self.marks[:letter] + [mark] + self.marks[letter + 1:]) else NoWorld
+        if word == "begin":
+            return self.name_refusal(things[0]) or self.footing_refusal(*things[1:])
+        if things[0] not in self.talks:
+            return NoTalk
+        if word == "fork":
+            return self.name_refusal(things[1])
+        if word == "drop":
+            return None
+        if self.talks[things[0]].over():
+            return TalkOver
+        if word == "say" and self.strange(things[1]):
+            return StrangeLetter
+        return NothingSaid if word == "back" and not self.talks[things[0]].entries() else None
+
+    def footing_refusal(self, kind, sentence, rule):
+        if self.strange(sentence):
+            return StrangeLetter
+        if kind not in KINDS or rule not in RULES:
+            return BadWord
+        return None if all(slow_sides(self.room, kind, sentence)) else NoStanding
+
+    def do(self, word, *things):
+        """Do a deed that is not refused, and tell what it tells."""
+        if word == "learn":
+            self.marks[things[0]] = things[1]
+            words, told = ["abcde"[things[0]], {True: "yes", False: "no", None: "unknown"}[things[1]]], None
+        elif word == "begin":
+            name, kind, sentence, rule = things
+            self.talks[name] = Talk(self.many, self.room, kind, sentence, rule)
+            words, told = [name, rule, kind, slow_shown(sentence)], None
+        elif word == "say":
+            told = self.talks[things[0]].say(things[1], self.seen())
+            words = [things[0], slow_shown(things[1]), told]
+        elif word in ("back", "end"):
+            words, told = [things[0]], getattr(self.talks[things[0]], word)()
+        elif word == "drop":
+            words, told = [things[0]], self.talks.pop(things[0]) and None
+        else:
+            self.talks[things[1]] = self.talks[things[0]].fork()
+            words, told = list(things), None
+        self.log.append(" ".join([word, *words]))
+        return told
+
+    def looks(self):
+        """All that can be looked at, as looks_of_house tells it."""
+        talks = [(name, talk.entries(), talk.held(), talk.caught(), talk.over(), clash_of(talk),
+                  [talk.ask(letter, self.seen()) for letter in LETTER[:self.many]])
+                 for name, talk in self.talks.items()]
+        return {"room": self.room, "seen": self.seen(), "marks": list(self.marks), "log": list(self.log),
+                "talks": talks}
+
+
+def looks_of_house(house, many):
+    """All that can be looked at in a house of so many letters."""
+    talks = [(name, house.entries(name), house.held(name), house.caught(name), house.over(name), house.clash(name),
+              [house.ask(name, letter) for letter in LETTER[:many]]) for name in house.names()]
+    return {"room": house.room(), "seen": house.seen(), "marks": [house.known(k) for k in range(many)],
+            "log": house.log(), "talks": talks}
+
+
+def standing_by_chance(chance):
+    """A number of letters, and standing sentences that leave a world."""
+    many = chance.choice((1, 2, 2, 3, 3, 4, 5))
+    while True:
+        standing = [grown(chance, 3, many) for k in range(chance.choice((0, 0, 1, 2, 3)))]
+        if any(all(slow_true(each, world) for each in standing) for world in range(2 ** many)):
+            return many, standing
+
+
+def deed_by_chance(chance, many, wrong=0.1):
+    """A deed of a house: its word and what is handed in, wrong at times."""
+    def name():
+        names = ("", "A", "a b", "abcdefghi") if chance.random() < wrong else ("a", "bo", "cyd", "abcdefgh")
+        return chance.choice(names)
+
+    def sentence():
+        return grown(chance, chance.randrange(4), 5 if chance.random() < wrong else many)
+
+    word = chance.choice(("learn", "begin", "say", "say") * 2 + ("back", "fork", "end", "drop"))
+    if word == "learn":
+        letter = chance.randrange(-1, 6) if chance.random() < wrong else chance.randrange(many)
+        return (word, letter, chance.choice((True, False, None)))
+    if word == "begin":
+        kinds, rules = (("elder", ""), ("true", "")) if chance.random() < wrong else (KINDS, RULES)
+        return (word, name(), chance.choice(kinds), sentence(), chance.choice(rules))
+    if word == "say":
+        return (word, name(), sentence())
+    if word == "fork":
+        return (word, name(), name())
+    return (word, name())
 
 
 class Stuck(Exception):

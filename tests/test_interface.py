@@ -14,6 +14,8 @@ DEFS = {
     "papers": {"paper_of": ["talk", "sentence", "seen"], "paper_holds": ["talk", "sentence", "seen", "paper"],
                "clash_of": ["talk"]},
     "judge": {"judged": ["talk", "seen", "row"], "falls": ["many", "room", "kind", "sentence", "row"]},
+    "guess": {"guesses": ["many", "room", "kind", "sentence", "row"]},
+    "book": {"read_house": ["lines"]},
     "asker": {"way_to": ["talk", "goal", "seen"], "catch_by": ["talk", "seen"], "apart_by": ["one", "other", "seen"]},
 }
 
@@ -22,6 +24,12 @@ CLASSES = {
         "__init__": ["many", "room", "kind", "sentence", "rule"], "room": [], "base": [], "held": [], "going": [],
         "sides": [], "entries": [], "caught": [], "over": [], "ask": ["sentence", "seen"], "say": ["sentence", "seen"],
         "back": [], "fork": [], "end": []},
+    ("house", "House"): {
+        "__init__": ["many", "standing"], "room": [], "seen": [], "known": ["letter"], "learn": ["letter", "mark"],
+        "plainly": ["sentence"], "begin": ["name", "kind", "sentence", "rule"], "fork": ["name", "other"],
+        "drop": ["name"], "names": [], "say": ["name", "sentence"], "ask": ["name", "sentence"], "back": ["name"],
+        "end": ["name"], "entries": ["name"], "held": ["name"], "caught": ["name"], "over": ["name"],
+        "why": ["name", "sentence"], "clash": ["name"], "bring": ["name", "goal"], "catch": ["name"], "log": []},
 }
 
 

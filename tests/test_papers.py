@@ -17,7 +17,7 @@ WORD_OF = {"follows": ("grant",), "contrary": ("deny",), "free": ("grant", "deny
 
 
 def slow_barred(slow, inside, seen):
-    """The side by which the exception is met, or None; asked where the sentence is true in some worlds gone by alone."""
+    """The side by which the exception is met, or None; asked where some worlds gone by make the sentence true alone."""
     word = slow_plain(seen, inside)
     left = {"grant": slow.going() & inside, "deny": slow.going() - inside, "doubt": slow.room}[word]
     empty = [k for k, side in enumerate(slow.sides) if not side & left]
